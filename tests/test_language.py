@@ -1,0 +1,179 @@
+"""The rules of LANGUAGE.md that can be read off the files one by one."""
+
+import ast
+import pathlib
+import unittest
+
+PACKAGE = pathlib.Path(__file__).resolve().parent.parent / "trackedreads"
+FILES = sorted(path for path in PACKAGE.rglob("*.py"))
+BUILTINS = (
+    "len range enumerate zip min max sum abs sorted reversed int str bool list tuple dict set "
+    "isinstance ord repr any all divmod getattr hasattr setattr iter next map property "
+    "staticmethod classmethod super Exception ValueError TypeError KeyError IndexError "
+    "LookupError ZeroDivisionError ArithmeticError OverflowError RuntimeError "
+    "NotImplementedError AttributeError StopIteration NotImplemented frozenset pow"
+).split()
+METHODS = (
+    "append clear copy count endswith extend find get index insert isalnum isalpha isdigit "
+    "islower isspace isupper items join keys ljust lower lstrip partition pop remove replace "
+    "reverse rfind rjust rpartition rsplit rstrip setdefault split splitlines startswith strip "
+    "update upper values zfill bit_length isascii sort add discard"
+).split()
+SPECIAL = (
+    "init eq repr str len enter exit call iter lt le gt ge ne add sub mul floordiv mod pow and or "
+    "xor lshift rshift radd rsub rmul iadd isub imul neg pos invert abs bool contains getitem "
+    "setitem"
+).split()
+STATEMENTS = (
+    ast.FunctionDef, ast.ClassDef, ast.Return, ast.Assign, ast.AugAssign, ast.For, ast.While,
+    ast.If, ast.With, ast.Match, ast.Raise, ast.Try, ast.Assert, ast.ImportFrom, ast.Expr,
+    ast.Pass, ast.Break, ast.Continue, ast.Delete, ast.Nonlocal,
+)
+BARRED = ("register mro elements open input law version_info with_traceback add_note eval exec "
+          "compile globals locals vars dir id hash quit help print format").split()
+
+
+def trees():
+    for path in FILES:
+        yield path, ast.parse(path.read_text(encoding="utf-8"))
+
+
+def nodes(*kinds):
+    for path, tree in trees():
+        for node in ast.walk(tree):
+            if isinstance(node, kinds):
+                yield path.name, node
+
+
+class Files(unittest.TestCase):
+    def test_plain_files_of_bounded_size(self):
+        self.assertTrue(FILES)
+        for path in PACKAGE.rglob("*"):
+            if "__pycache__" not in path.parts and path.is_file():
+                self.assertEqual(path.suffix, ".py")
+        for path in FILES:
+            text = path.read_text(encoding="utf-8")
+            lines = text.split("\n")
+            self.assertLessEqual(len(lines), 399, path.name)
+            self.assertLessEqual(max(map(len, lines)), 120, path.name)
+            self.assertEqual([c for c in text if c != "\n" and not " " <= c <= "~"], [])
+
+    def test_functions_have_at_most_forty_lines(self):
+        for name, node in nodes(ast.FunctionDef):
+            self.assertLessEqual(node.end_lineno - node.lineno + 1, 40, (name, node.name))
+
+    def test_imports_of_the_package_alone_and_of_what_the_file_defines(self):
+        defined = {}
+        for path, tree in trees():
+            defined["trackedreads." + path.stem] = [
+                node.name for node in tree.body if isinstance(node, (ast.FunctionDef, ast.ClassDef))
+            ] + [target.id for node in tree.body if isinstance(node, ast.Assign)
+                 for target in node.targets]
+        for name, node in nodes(ast.ImportFrom):
+            self.assertEqual(node.level, 0)
+            if node.module in ("heapq", "math", "itertools", "collections"):
+                continue
+            self.assertIn(node.module, defined, name)
+            for alias in node.names:
+                self.assertIn(alias.name, defined[node.module], name)
+        self.assertEqual(list(nodes(ast.Import)), [])
+
+    def test_no_two_files_need_each_other(self):
+        needs = {path.stem: [node.module.split(".")[-1] for node in tree.body
+                             if isinstance(node, ast.ImportFrom)] for path, tree in trees()}
+        done = []
+        while len(done) < len(needs):
+            ready = [stem for stem in needs if stem not in done
+                     and all(other in done or other not in needs for other in needs[stem])]
+            self.assertTrue(ready, "files import from each other")
+            done += ready
+
+
+class Statements(unittest.TestCase):
+    def test_only_those_that_are_allowed(self):
+        for name, node in nodes(ast.stmt):
+            self.assertIsInstance(node, STATEMENTS, (name, node.lineno))
+        self.assertEqual(list(nodes(ast.Await, ast.AsyncFor, ast.Global, ast.AnnAssign)), [])
+
+    def test_module_level_holds_definitions_and_plain_values(self):
+        for path, tree in trees():
+            names = []
+            for node in tree.body:
+                if isinstance(node, ast.Assign):
+                    ast.literal_eval(node.value)
+                    self.assertEqual(len(node.targets), 1)
+                    names.append(node.targets[0].id)
+                elif isinstance(node, (ast.FunctionDef, ast.ClassDef)):
+                    names.append(node.name)
+                elif isinstance(node, ast.ImportFrom):
+                    names += [alias.asname or alias.name for alias in node.names]
+                else:
+                    self.assertIsInstance(node.value, ast.Constant, path.name)
+            self.assertEqual(len(names), len(set(names)), path.name)
+
+    def test_decorators(self):
+        for name, node in nodes(ast.FunctionDef, ast.ClassDef):
+            for sign in node.decorator_list:
+                word = sign.id if isinstance(sign, ast.Name) else sign.attr
+                self.assertIn(word, ("classmethod", "staticmethod", "property", "setter"), name)
+
+    def test_no_floats_no_division_no_percent(self):
+        for name, node in nodes(ast.Constant):
+            self.assertNotIsInstance(node.value, (float, complex))
+            if isinstance(node.value, str):
+                self.assertNotIn(chr(37), node.value, name)
+        self.assertEqual(list(nodes(ast.Div)), [])
+
+    def test_is_stands_beside_none_true_and_false(self):
+        for name, node in nodes(ast.Compare):
+            for sign, side in zip(node.ops, node.comparators):
+                if isinstance(sign, (ast.Is, ast.IsNot)):
+                    self.assertIsInstance(side, ast.Constant, (name, node.lineno))
+
+    def test_errors_are_raised_by_name(self):
+        for name, node in nodes(ast.Raise):
+            if node.exc is not None:
+                self.assertIsInstance(node.exc, ast.Call, name)
+                self.assertIsInstance(node.exc.func, ast.Name, name)
+
+
+class Names(unittest.TestCase):
+    def test_builtins(self):
+        import builtins
+        for name, node in nodes(ast.Name):
+            if hasattr(builtins, node.id):
+                self.assertIn(node.id, BUILTINS, (name, node.lineno))
+                self.assertIsInstance(node.ctx, ast.Load, (name, node.lineno))
+
+    def test_methods_are_own_ones_or_listed(self):
+        own = [node.name for _, node in nodes(ast.FunctionDef)]
+        for name, node in nodes(ast.Call):
+            if isinstance(node.func, ast.Attribute):
+                self.assertIn(node.func.attr, own + METHODS, (name, node.lineno))
+
+    def test_attributes_are_assigned_somewhere(self):
+        known = [node.name for _, node in nodes(ast.FunctionDef)] + METHODS
+        known += [node.attr for _, node in nodes(ast.Attribute)
+                  if isinstance(node.ctx, ast.Store)]
+        known += [target.id for _, node in nodes(ast.ClassDef) for row in node.body
+                  if isinstance(row, ast.Assign) for target in row.targets]
+        for name, node in nodes(ast.Attribute):
+            self.assertIn(node.attr, known, (name, node.lineno))
+
+    def test_no_barred_name(self):
+        for name, node in nodes(ast.Name, ast.Attribute, ast.FunctionDef, ast.arg, ast.keyword):
+            word = (getattr(node, "id", None) or getattr(node, "attr", None)
+                    or getattr(node, "name", None) or getattr(node, "arg", None))
+            self.assertNotIn(word, BARRED, name)
+
+    def test_double_underscores(self):
+        for name, node in nodes(ast.FunctionDef):
+            if node.name.startswith("__"):
+                self.assertIn(node.name.strip("_"), SPECIAL, name)
+        for name, node in nodes(ast.Name, ast.arg):
+            word = getattr(node, "id", None) or node.arg
+            self.assertFalse(word.startswith("__"), name)
+
+
+if __name__ == "__main__":
+    unittest.main()

@@ -1,0 +1,1 @@
+"""Trackedreads: which reads a reactive program may leave unnoted."""
