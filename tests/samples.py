@@ -81,6 +81,12 @@ def lines_of(text):
     return text.split("/") if text else []
 
 
+def body(kind, *parts):
+    """The body of these parts, with a give at its end in an answer."""
+    lines = [part for part in parts if part]
+    return "/".join(lines + ["give 0"] if kind == "answer" else lines)
+
+
 def answer_body(text):
     """The lines of a book, and where in it the body of an answer with these lines begins."""
     head = ["cell a = 0", "cell b = 0", "each top", "give a", "end", "kept own"]
@@ -105,7 +111,7 @@ BODIES = {"answer": answer_body, "effect": effect_body, "handler": handler_body}
 def wrong_in(kind, text):
     """The index in the body of the first line that cannot stand; None if all lines can.
 
-    A line behind the body that cannot stand counts on from there: its own end is next.
+    Behind the body the counting goes on: the body's own end has the number of its lines.
     """
     lines, first = BODIES[kind](text)
     at = wrong_at(lines)

@@ -2,7 +2,7 @@
 
 import unittest
 
-from tests.samples import BODIES, lines_of, wrong_at, wrong_in
+from tests.samples import BODIES, body, lines_of, wrong_at, wrong_in
 
 # Each line of the table with what closes it, and the bodies in which it stands.
 TABLE = (
@@ -30,12 +30,6 @@ BLOCKS = (
     ("if a == 0/quiet/if b == 0/else", "end/end/end", "answer effect"),
     ("batch/if a == 0/batch", "end/end/end", "handler"),
 )
-
-
-def body(kind, *parts):
-    """The body of these parts, with a give at its end in an answer."""
-    lines = [part for part in parts if part]
-    return "/".join(lines + ["give 0"] if kind == "answer" else lines)
 
 
 class Table(unittest.TestCase):

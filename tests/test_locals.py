@@ -2,7 +2,7 @@
 
 import unittest
 
-from tests.samples import BODIES, lines_of, wrong_at, wrong_in
+from tests.samples import BODIES, body, lines_of, wrong_at, wrong_in
 
 # What uses the word w as an expression, in each kind of body.
 USES = {
@@ -10,11 +10,6 @@ USES = {
     "effect": ("tell w", "set a = w", "let y = w", "if w == 0/end", "if a == w/end"),
     "handler": ("set a = w", "let y = w", "if w != 0/end", "if a == w/end"),
 }
-
-
-def body(kind, *parts):
-    lines = [part for part in parts if part]
-    return "/".join(lines + ["give 0"] if kind == "answer" else lines)
 
 
 class InForce(unittest.TestCase):
