@@ -81,6 +81,11 @@ def lines_of(text):
     return text.split("/") if text else []
 
 
+def book_of(text):
+    """The book of these lines."""
+    return Book(lines_of(text))
+
+
 def body(kind, *parts):
     """The body of these parts, with a give at its end in an answer."""
     lines = [part for part in parts if part]

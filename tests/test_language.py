@@ -32,6 +32,8 @@ STATEMENTS = (
 BARRED = ("register mro elements open input law version_info with_traceback add_note eval exec "
           "compile globals locals vars dir id hash quit help print format").split()
 
+ERRORS = ("BadArguments", "BadRow", "NoName", "NotWaiting", "Ring")
+
 
 def trees():
     for path in FILES:
@@ -130,6 +132,35 @@ class Statements(unittest.TestCase):
                 if isinstance(sign, (ast.Is, ast.IsNot)):
                     self.assertIsInstance(side, ast.Constant, (name, node.lineno))
 
+    def test_no_generator_expressions(self):
+        # Where a class has an __eq__, any, all, sum and the like take lists.
+        self.assertEqual(list(nodes(ast.GeneratorExp)), [])
+
+    def test_sets_are_only_measured_sorted_and_asked(self):
+        for path, tree in trees():
+            held = [node for node in ast.walk(tree) if isinstance(node, (ast.Set, ast.SetComp))
+                    or isinstance(node, ast.Call) and getattr(node.func, "id", None) == "set"]
+            places = []
+            for node in ast.walk(tree):
+                if isinstance(node, ast.Call) and getattr(node.func, "id", None) in ("len", "sorted"):
+                    places += node.args
+                if isinstance(node, ast.Assign) and isinstance(node.targets[0], ast.Name):
+                    places.append(node.value)
+            for node in held:
+                self.assertIn(node, places, (path.name, node.lineno))
+
+    def test_classes_with_items_say_whether_they_are_iterated_over(self):
+        for _, node in nodes(ast.ClassDef):
+            methods = [row.name for row in node.body if isinstance(row, ast.FunctionDef)]
+            if "__getitem__" in methods:
+                self.assertIn("__iter__", methods)
+
+    def test_no_error_of_pythons_own_is_caught(self):
+        for name, node in nodes(ast.ExceptHandler):
+            caught = node.type.elts if isinstance(node.type, ast.Tuple) else [node.type]
+            for error in caught:
+                self.assertIn(error.id, ERRORS, (name, node.lineno))
+
     def test_errors_are_raised_by_name(self):
         for name, node in nodes(ast.Raise):
             if node.exc is not None:
@@ -165,6 +196,30 @@ class Names(unittest.TestCase):
             word = (getattr(node, "id", None) or getattr(node, "attr", None)
                     or getattr(node, "name", None) or getattr(node, "arg", None))
             self.assertNotIn(word, BARRED, name)
+
+    def test_names_inside_functions_are_no_classes_or_imports_of_the_file(self):
+        for path, tree in trees():
+            taken = [node.name for node in tree.body if isinstance(node, ast.ClassDef)]
+            taken += [alias.name for node in tree.body if isinstance(node, ast.ImportFrom)
+                      for alias in node.names]
+            for node in ast.walk(tree):
+                word = getattr(node, "arg", None) if isinstance(node, ast.arg) else None
+                if isinstance(node, ast.Name) and isinstance(node.ctx, ast.Store):
+                    word = node.id
+                self.assertNotIn(word, taken, path.name)
+
+    def test_properties_and_generators_share_their_names_with_nothing(self):
+        decorated = [node.name for _, node in nodes(ast.FunctionDef)
+                     if "property" in [getattr(sign, "id", None) for sign in node.decorator_list]]
+        yielding = [node.name for _, node in nodes(ast.FunctionDef)
+                    if any(isinstance(row, (ast.Yield, ast.YieldFrom)) for row in ast.walk(node))]
+        self.assertIn("present", decorated)
+        self.assertIn("reports", yielding)
+        for name, node in nodes(ast.Attribute):
+            if isinstance(node.ctx, ast.Store):
+                self.assertNotIn(node.attr, decorated + yielding, name)
+        for word in decorated + yielding:
+            self.assertEqual([node.name for _, node in nodes(ast.FunctionDef)].count(word), 1)
 
     def test_double_underscores(self):
         for name, node in nodes(ast.FunctionDef):

@@ -2,11 +2,14 @@
 
 Its lines become steps, one for each line, with the same index:
 
-    ("let", local, x)  ("set", cell, x)  ("note", source)  ("give", x)  ("tell", x)
-    ("wait",)  ("if", sign, x, y, at)  ("else", at)  ("quiet", at)  ("batch", at)  ("end",)
+    ("let", local, x)  ("set", cell, x)  ("note", x)  ("give", x)  ("tell", x)
+    ("wait", locals)  ("if", sign, x, y, at)  ("else", at)  ("quiet", at)  ("batch", at)
+    ("end",)
 
 x and y are ("number", n), ("local", name), ("read", source) or ("peek", source), where
-a source is here a cell or any answer; at is the index of the line that ends the block.
+a source is here a cell or any answer; what is read in a quiet block is a "peek", too.
+The locals are the names of those in force there, ascending; at is the index of the line
+that ends the block.
 """
 
 # By the first words of the lines with which bodies begin.
@@ -77,7 +80,9 @@ class OpenBody:
                 right = self._expression(other)
                 return None if left is None or right is None else ("if", sign, left, right)
             case ("note", source):
-                return said if source in self.sources else None
+                return ("note", self._reading(source)) if source in self.sources else None
+            case ("wait",):
+                return ("wait", tuple(sorted(self.known)))
         return said
 
     def _expression(self, given):
@@ -88,7 +93,12 @@ class OpenBody:
             return ("local", thing)
         if thing not in self.sources:
             return None
-        return ("read" if kind == "word" else "peek", thing)
+        return self._reading(thing) if kind == "word" else ("peek", thing)
+
+    def _reading(self, source):
+        """A read without a peek: noted unless a quiet block is open."""
+        is_quiet = any([word == "quiet" for word, _, _ in self.blocks])
+        return ("peek" if is_quiet else "read", source)
 
     def _put_in_force(self, local):
         if local not in self.known:

@@ -1,4 +1,4 @@
-"""Values that callers pass in: copies that they cannot change later."""
+"""Values that callers pass in: copies that they cannot change later, and what they are."""
 
 
 def copied(value):
@@ -8,3 +8,13 @@ def copied(value):
     if isinstance(value, tuple):
         return tuple([copied(item) for item in value])
     return value
+
+
+def is_integer(thing):
+    """Whether any value is an integer; a truth value is none."""
+    return isinstance(thing, int) and not isinstance(thing, bool)
+
+
+def are_integers(thing):
+    """Whether any value is a tuple of integers."""
+    return isinstance(thing, tuple) and all([is_integer(item) for item in thing])

@@ -1,0 +1,67 @@
+"""Looks certificates over, whoever made them."""
+
+from trackedreads.branches import all_ways, count_of_events, events_in, happened
+from trackedreads.engine import beginning
+from trackedreads.errors import BadRow, TooMany
+from trackedreads.faults import check_asks, faults_of
+from trackedreads.forms import wrong_part
+from trackedreads.naming import canonical_of
+from trackedreads.play import replay_faults
+
+MOST_EVENTS = 1000
+
+
+def is_certificate(book, thing, *, asks=("ends", "fresh"), order="book"):
+    """Whether any value shows that the book keeps, or does not keep, what is asked."""
+    check_asks(asks)
+    if not isinstance(thing, tuple):
+        return False
+    if len(thing) == 2 and thing[0] == "kept":
+        return _is_table(book, thing[1]) and _is_closed(book, thing[1], asks, order)
+    if len(thing) == 4 and thing[0] == "broken":
+        _, row, ask, effect = thing
+        return ask in asks and _has_fault(book, row, (ask, effect), order)
+    return False
+
+
+def _has_fault(book, row, fault, order):
+    try:
+        faults = replay_faults(book, row)
+    except BadRow:
+        return False
+    if order == "book" and not all([event[-1] == () for event in row]):
+        return False
+    return fault in faults
+
+
+def _is_table(book, table):
+    """Whether it is a tuple of canonical states without duplicates."""
+    if not isinstance(table, tuple):
+        return False
+    for held in table:
+        if wrong_part(book, held) is not None or canonical_of(book, held) != held:
+            return False
+    return len({held for held in table}) == len(table)
+
+
+def _is_closed(book, table, asks, order):
+    """Whether no event of the start or the table has a fault asked or leads out of the table."""
+    if sum([count_of_events(book, held) for held in table]) > MOST_EVENTS:
+        raise TooMany("events")
+    steps = [(beginning(book), ("start", ()))]
+    steps.extend([(held, event) for held in table for event in events_in(book, held)])
+    found = {held: True for held in table}
+    # All of them ahead of the answer: too many ways are told of whatever else is wrong.
+    stays = [_stays(book, step, found, asks, order) for step in steps]
+    return all(stays)
+
+
+def _stays(book, step, found, asks, order):
+    held, event = step
+    engines = all_ways(book, held, event) if order == "any" else [happened(book, held, event)]
+    for engine in engines:
+        if any([ask in asks for ask, _ in faults_of(engine)]):
+            return False
+        if engine.ring is None and canonical_of(book, engine.snapshot()) not in found:
+            return False
+    return True
