@@ -50,18 +50,44 @@ def _is_closed(book, table, asks, order):
         raise TooMany("events")
     steps = [(beginning(book), ("start", ()))]
     steps.extend([(held, event) for held in table for event in events_in(book, held)])
-    found = {held: True for held in table}
-    # All of them ahead of the answer: too many ways are told of whatever else is wrong.
-    stays = [_stays(book, step, found, asks, order) for step in steps]
-    return all(stays)
+    look = Look(book, table, asks, order)
+    is_closed = True
+    for held, event in steps:
+        if is_closed:
+            is_closed = look.stays(held, event)
+        elif order == "any":
+            # Too many ways are told of, whatever else is wrong.
+            all_ways(book, held, event)
+        else:
+            return False
+    return is_closed
 
 
-def _stays(book, step, found, asks, order):
-    held, event = step
-    engines = all_ways(book, held, event) if order == "any" else [happened(book, held, event)]
-    for engine in engines:
-        if any([ask in asks for ask, _ in faults_of(engine)]):
+class Look:
+    """A look at the events of a table."""
+
+    def __init__(self, book, table, asks, order):
+        self.book = book
+        self.asks = asks
+        self.order = order
+        # Whether a state stands for one of the table. Many events lead to the same few states.
+        self.known = {held: True for held in table}
+
+    def stays(self, held, event):
+        """Whether the event has no fault asked and leads to the table, in each of its ways."""
+        if self.order == "any":
+            engines = all_ways(self.book, held, event)
+        else:
+            engines = [happened(self.book, held, event)]
+        return all([self._is_good(engine) for engine in engines])
+
+    def _is_good(self, engine):
+        if any([ask in self.asks for ask, _ in faults_of(engine)]):
             return False
-        if engine.ring is None and canonical_of(book, engine.snapshot()) not in found:
-            return False
-    return True
+        return engine.ring is not None or self._is_known(engine.snapshot())
+
+    def _is_known(self, behind):
+        if behind not in self.known:
+            # A state of the table is its own canonical state, so that no other one is missed.
+            self.known[behind] = self.known.get(canonical_of(self.book, behind), False)
+        return self.known[behind]

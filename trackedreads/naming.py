@@ -9,15 +9,6 @@ class Naming:
         self.names = {number: number for number in numbers}
         self.least = 0
 
-    def named(self, worth):
-        """The name of a value; a value that was not met yet gets the next one."""
-        if worth not in self.names:
-            while self.least in self.numbers:
-                self.least += 1
-            self.names[worth] = self.least
-            self.least += 1
-        return self.names[worth]
-
     def state_named(self, held):
         """The state with names for its values, which are met from left to right."""
         values, kept, effects = held
@@ -26,16 +17,31 @@ class Naming:
         return new_values, new_kept, tuple([self._effect_named(entry) for entry in effects])
 
     def _all_named(self, values):
-        return tuple([self.named(worth) for worth in values])
+        names = self.names
+        # Ahead of the names: reports can be long, and most of their values were met before.
+        for worth in values:
+            if worth not in names:
+                self._meet(worth)
+        return tuple([names[worth] for worth in values])
+
+    def _meet(self, worth):
+        """Gives a value that was not met yet the next name."""
+        while self.least in self.numbers:
+            self.least += 1
+        self.names[worth] = self.least
+        self.least += 1
 
     def _pairs_named(self, pairs):
-        return tuple([(word, self.named(worth)) for word, worth in pairs])
+        if not pairs:
+            return ()
+        found = self._all_named([worth for _, worth in pairs])
+        return tuple([(word, name) for (word, _), name in zip(pairs, found)])
 
     def _kept_named(self, entry):
         if entry is None:
             return None
-        worth = self.named(entry[0])
-        return worth, self._pairs_named(entry[1])
+        name, = self._all_named((entry[0],))
+        return name, self._pairs_named(entry[1])
 
     def _effect_named(self, entry):
         report, notes, wait = entry
