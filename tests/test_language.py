@@ -161,6 +161,32 @@ class Statements(unittest.TestCase):
             for error in caught:
                 self.assertIn(error.id, ERRORS, (name, node.lineno))
 
+    def test_what_stands_in_a_finally(self):
+        blocks = [row for _, node in nodes(ast.Try) for row in node.finalbody]
+        self.assertTrue(blocks)
+        for row in blocks:
+            self.assertIsInstance(row, ast.Assign)
+            self.assertEqual(len(row.targets), 1)
+            for side in (row.targets[0], row.value):
+                self.assertIsInstance(side, (ast.Name, ast.Attribute))
+
+    def test_methods_are_called_where_they_stand(self):
+        own = [row.name for _, node in nodes(ast.ClassDef) for row in node.body
+               if isinstance(row, ast.FunctionDef) and not row.decorator_list]
+        stored = [node.attr for _, node in nodes(ast.Attribute) if isinstance(node.ctx, ast.Store)]
+        places = [(name, node.func.lineno, node.func.col_offset) for name, node in nodes(ast.Call)]
+        for name, node in nodes(ast.Attribute):
+            if node.attr in own and node.attr not in stored:
+                place = (name, node.lineno, node.col_offset)
+                self.assertTrue(place in places, place)
+
+    def test_what_properties_and_operators_need_adds_nothing_in_place(self):
+        # A class has an __iadd__.
+        for name, node in nodes(ast.FunctionDef):
+            is_special = node.name.startswith("__") and node.name not in ("__init__", "__call__")
+            if is_special or node.decorator_list:
+                self.assertEqual([row for row in ast.walk(node) if isinstance(row, ast.AugAssign)], [])
+
     def test_errors_are_raised_by_name(self):
         for name, node in nodes(ast.Raise):
             if node.exc is not None:
@@ -183,7 +209,7 @@ class Names(unittest.TestCase):
                 self.assertIn(node.func.attr, own + METHODS, (name, node.lineno))
 
     def test_attributes_are_assigned_somewhere(self):
-        known = [node.name for _, node in nodes(ast.FunctionDef)] + METHODS
+        known = [node.name for _, node in nodes(ast.FunctionDef)] + METHODS + ["setter"]
         known += [node.attr for _, node in nodes(ast.Attribute)
                   if isinstance(node.ctx, ast.Store)]
         known += [target.id for _, node in nodes(ast.ClassDef) for row in node.body
@@ -218,8 +244,25 @@ class Names(unittest.TestCase):
         for name, node in nodes(ast.Attribute):
             if isinstance(node.ctx, ast.Store):
                 self.assertNotIn(node.attr, decorated + yielding, name)
+        with_setter = [sign.value.id for _, node in nodes(ast.FunctionDef)
+                       for sign in node.decorator_list if isinstance(sign, ast.Attribute)]
+        self.assertEqual(with_setter, ["value"])
         for word in decorated + yielding:
-            self.assertEqual([node.name for _, node in nodes(ast.FunctionDef)].count(word), 1)
+            many = 1 + with_setter.count(word)
+            self.assertEqual([node.name for _, node in nodes(ast.FunctionDef)].count(word), many)
+
+    def test_captured_names_mean_nothing_else_in_their_function(self):
+        for name, node in nodes(ast.FunctionDef):
+            captured = [part.name for part in ast.walk(node)
+                        if isinstance(part, (ast.MatchAs, ast.MatchStar)) and part.name]
+            others = [part.id for part in ast.walk(node)
+                      if isinstance(part, ast.Name) and isinstance(part.ctx, ast.Store)]
+            others += [part.arg for part in ast.walk(node) if isinstance(part, ast.arg)]
+            inner = [part.id for row in ast.walk(node)
+                     if isinstance(row, ast.Lambda) or isinstance(row, ast.FunctionDef) and row is not node
+                     for part in ast.walk(row) if isinstance(part, ast.Name)]
+            for word in captured:
+                self.assertNotIn(word, others + inner, (name, node.name))
 
     def test_double_underscores(self):
         for name, node in nodes(ast.FunctionDef):

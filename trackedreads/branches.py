@@ -9,19 +9,32 @@ MOST_WAYS = 8
 
 def count_of_events(book, held):
     """How many events (27) a state of the book has."""
-    firsts = len(known_values(book, held)) + 1
-    counts = (1, firsts, firsts * firsts + 1)
-    called = sum([counts[len(parameters)] for _, parameters in book.handlers])
-    return called + len(_waiting(book, held))
+    return count_with(book.handlers, known_values(book, held), waiting_in(book, held))
 
 
 def events_in(book, held):
     """The events (27) of a state of the book, however many there are."""
-    known = known_values(book, held)
+    return events_with(book.handlers, known_values(book, held), waiting_in(book, held))
+
+
+def count_with(handlers, known, waiting):
+    """How many events there are with these handlers, known values and effects that wait."""
+    firsts = len(known) + 1
+    counts = (1, firsts, firsts * firsts + 1)
+    return sum([counts[len(parameters)] for _, parameters in handlers]) + len(waiting)
+
+
+def events_with(handlers, known, waiting):
+    """The events that there are with these handlers, known values and effects that wait."""
     found = [("call", name, values, ())
-             for name, parameters in book.handlers
+             for name, parameters in handlers
              for values in _values_for(len(parameters), known)]
-    return found + [("resume", name, ()) for name in _waiting(book, held)]
+    return found + [("resume", name, ()) for name in waiting]
+
+
+def waiting_in(book, held):
+    """The names of the effects that wait in a state of the book, in order."""
+    return [name for name, entry in zip(book.effects, held[2]) if entry[2] is not None]
 
 
 def happened(book, held, event):
@@ -78,7 +91,3 @@ def _least_two_not_in(known):
             least.append(at)
         at += 1
     return least
-
-
-def _waiting(book, held):
-    return [name for name, entry in zip(book.effects, held[2]) if entry[2] is not None]
