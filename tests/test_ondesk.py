@@ -2,6 +2,7 @@
 
 import random
 import unittest
+from unittest import mock
 
 from tests.chance import Chance, event_by
 from tests.samples import EXAMPLE, FULL, book_of
@@ -162,6 +163,33 @@ class BesideThePlay(Case):
                 "end/effect f/note q/tell peek p/end/handler h x/set a = x/if peek q == peek p/set a = q/end/end")
         log = self.agree(text, ("h", 3))
         self.assertEqual(log[2:], [("f", (3,))])
+
+
+class CallsOfTheDesk(Case):
+    def calls(self, text, word, *event):
+        """How often the method of the desk is called, by an event or when the book is put there."""
+        there = OnDesk(book_of(text)) if event else None
+        with mock.patch.object(Desk, word, autospec=True, side_effect=getattr(Desk, word)) as called:
+            if event:
+                there.call(*event)
+            else:
+                OnDesk(book_of(text))
+        return called.call_count
+
+    def test_quiet_blocks_are_quiet_calls(self):
+        text = "cell a = 0/kept p/{}give 0/end/effect e/{}end/handler h/end"
+        for blocks in (("", ""), ("", "quiet/end/"), ("", "quiet/tell 1/quiet/end/end/"),
+                       ("", "if a == 0/else/quiet/end/end/"), ("quiet/give 1/end/", "note p/"),
+                       ("quiet/give 1/end/quiet/end/", "note p/quiet/end/")):
+            reached = 0 if "else" in blocks[1] else "".join(blocks).count("quiet")
+            reached -= "give 1/end/quiet" in blocks[0]
+            self.assertEqual(self.calls(text.format(*blocks), "quietly"), reached)
+
+    def test_batches_are_calls_of_together(self):
+        text = "cell a = 0/effect e/end/handler h/batch/batch/set a = 1/end/batch/end/end/end/handler k/end"
+        self.assertEqual(self.calls(text, "together"), 1)
+        self.assertEqual(self.calls(text, "together", "h"), 3)
+        self.assertEqual(self.calls(text, "together", "k"), 0)
 
 
 class Names(Case):
