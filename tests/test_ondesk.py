@@ -178,12 +178,12 @@ class CallsOfTheDesk(Case):
 
     def test_quiet_blocks_are_quiet_calls(self):
         text = "cell a = 0/kept p/{}give 0/end/effect e/{}end/handler h/end"
-        for blocks in (("", ""), ("", "quiet/end/"), ("", "quiet/tell 1/quiet/end/end/"),
-                       ("", "if a == 0/else/quiet/end/end/"), ("quiet/give 1/end/", "note p/"),
-                       ("quiet/give 1/end/quiet/end/", "note p/quiet/end/")):
-            reached = 0 if "else" in blocks[1] else "".join(blocks).count("quiet")
-            reached -= "give 1/end/quiet" in blocks[0]
-            self.assertEqual(self.calls(text.format(*blocks), "quietly"), reached)
+        for answer, effect, many in (
+                ("", "", 0), ("", "quiet/end/", 1), ("", "quiet/tell 1/quiet/end/end/", 2),
+                ("", "if a == 0/else/quiet/end/end/", 0), ("quiet/end/", "", 0),
+                ("quiet/give 1/end/", "note p/", 1), ("quiet/give 1/end/quiet/end/", "note p/", 1),
+                ("quiet/quiet/give 1/end/give 0/end/", "note p/quiet/end/", 3)):
+            self.assertEqual(self.calls(text.format(answer, effect), "quietly"), many)
 
     def test_batches_are_calls_of_together(self):
         text = "cell a = 0/effect e/end/handler h/batch/batch/set a = 1/end/batch/end/end/end/handler k/end"

@@ -109,6 +109,7 @@ def _is_closed(books, table):
         if is_parted:
             return False
         if behind is not None and behind not in known:
+            # A joint state of the table is its own canonical form, so that none is missed.
             known[behind] = known.get(books.canonical_of(behind), False)
         if behind is not None and not known[behind]:
             return False

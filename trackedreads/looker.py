@@ -82,12 +82,15 @@ class Look:
         return all([self._is_good(engine) for engine in engines])
 
     def _is_good(self, engine):
-        if any([ask in self.asks for ask, _ in faults_of(engine)]):
+        # Without asks no fault counts, and the true reports need not be worked out.
+        if self.asks and any([ask in self.asks for ask, _ in faults_of(engine)]):
             return False
         return engine.ring is not None or self._is_known(engine.snapshot())
 
     def _is_known(self, behind):
-        if behind not in self.known:
-            # A state of the table is its own canonical state, so that no other one is missed.
-            self.known[behind] = self.known.get(canonical_of(self.book, behind), False)
-        return self.known[behind]
+        is_known = self.known.get(behind)
+        if is_known is None:
+            # A state of the table is its own canonical state, so that none is missed.
+            is_known = self.known.get(canonical_of(self.book, behind), False)
+            self.known[behind] = is_known
+        return is_known
