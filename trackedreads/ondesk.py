@@ -13,8 +13,8 @@ class OnDesk:
                 raise HasWait(name)
         self.desk = Desk()
         self._book = book
-        self._cells = {}
-        self._kept = {}
+        # The cells and the kept answers, by their names.
+        self._sources = {}
         self._make_all()
 
     def call(self, name, *values):
@@ -29,7 +29,7 @@ class OnDesk:
     def _make_all(self):
         def make():
             for name, number in self._book.cells:
-                self._cells[name] = self.desk.cell(name, number)
+                self._sources[name] = self.desk.cell(name, number)
             for name, kind in self._book.answers:
                 if kind == "kept":
                     self._make_kept(name)
@@ -38,7 +38,7 @@ class OnDesk:
         self.desk.together(make)
 
     def _make_kept(self, name):
-        self._kept[name] = self.desk.kept(name, lambda: self._outcome(name, {})[0])
+        self._sources[name] = self.desk.kept(name, lambda: self._outcome(name, {})[0])
 
     def _make_effect(self, name):
         self.desk.effect(name, lambda: tuple(self._outcome(name, {})))
@@ -62,7 +62,7 @@ class OnDesk:
         if word == "let":
             body.known[step[1]] = self._worth(step[2], body)
         elif word == "set":
-            self._cells[step[1]].put(self._worth(step[2], body))
+            self._sources[step[1]].put(self._worth(step[2], body))
         elif word == "note":
             self._worth(step[1], body)
         elif word in ("tell", "give"):
@@ -94,10 +94,9 @@ class OnDesk:
         return self._reading(thing)
 
     def _reading(self, source):
-        if source in self._cells:
-            return self._cells[source]()
-        if source in self._kept:
-            return self._kept[source]()
+        if source in self._sources:
+            thing = self._sources[source]
+            return thing()
         # An answer of the other kind stands on no desk: the work that reads it works it out.
         return self._outcome(source, {})[0]
 
